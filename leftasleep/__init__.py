@@ -1,0 +1,1 @@
+"""Leftasleep: which ways of waiting and calling leave nobody asleep."""

@@ -1,0 +1,56 @@
+import ast
+import importlib
+import inspect
+import pathlib
+import unittest
+
+PACKAGE = pathlib.Path(__file__).resolve().parent.parent / "leftasleep"
+
+# What the interface lists so far: for each file its functions with the names of their arguments.
+FUNCTIONS = {
+    "books": {
+        "entries": (),
+        "book_error": ("value",),
+        "word_of": ("book", "name"),
+        "turned": ("book", "name", "word"),
+        "number_of": ("book",),
+        "book_of": ("value",),
+    },
+    "knownbooks": {"notify_one": (), "notify_all": (), "hand_off": (), "careless": ()},
+}
+CLASSES = {
+    "errors": ("SleepError", "Unfit", "BadBook", "BadPrograms", "BadMove", "BadRun", "BadText", "BadLog", "Refused",
+               "TooMany", "TooManyEdits", "NothingToUndo"),
+}
+
+
+def defined(name, kind):
+    """The names that the file of this module defines itself."""
+    tree = ast.parse((PACKAGE / (name + ".py")).read_text())
+    return {node.name for node in tree.body if isinstance(node, kind)}
+
+
+class InterfaceTest(unittest.TestCase):
+    """The interface: which name stands in which file."""
+
+    def test_functions_stand_in_their_files(self):
+        for module, listed in FUNCTIONS.items():
+            self.assertLessEqual(set(listed), defined(module, ast.FunctionDef), module)
+
+    def test_classes_stand_in_their_files(self):
+        for module, listed in CLASSES.items():
+            self.assertLessEqual(set(listed), defined(module, ast.ClassDef), module)
+
+    def test_arguments_have_the_names_that_are_told(self):
+        for module, listed in FUNCTIONS.items():
+            for name, arguments in listed.items():
+                made = getattr(importlib.import_module("leftasleep." + module), name)
+                parameters = inspect.signature(made).parameters
+                self.assertEqual(tuple(parameters), arguments)
+                for parameter in parameters.values():
+                    self.assertIs(parameter.kind, inspect.Parameter.POSITIONAL_OR_KEYWORD)
+                    self.assertIs(parameter.default, inspect.Parameter.empty)
+
+
+if __name__ == "__main__":
+    unittest.main()
