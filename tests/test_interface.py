@@ -17,6 +17,15 @@ FUNCTIONS = {
         "book_of": ("value",),
     },
     "knownbooks": {"notify_one": (), "notify_all": (), "hand_off": (), "careless": ()},
+    "booktexts": {"book_text": ("book",), "read_book": ("value",)},
+    "programs": {
+        "programs_error": ("value",),
+        "sorts": (),
+        "is_of": ("programs", "sort"),
+        "sort_of": ("programs",),
+    },
+    "programtexts": {"programs_text": ("programs",), "read_programs": ("value",)},
+    "standings": {"start": ("programs",), "standing_text": ("standing",)},
 }
 CLASSES = {
     "errors": ("SleepError", "Unfit", "BadBook", "BadPrograms", "BadMove", "BadRun", "BadText", "BadLog", "Refused",
