@@ -8,6 +8,12 @@ def start(programs):
     return (0, (), tuple([(program, "free", "no") for program in programs]))
 
 
+def wanted(standing, hand):
+    """The number of the first deed of the hand: what it wants, if that is a take or a wish."""
+    left, _, _ = standing[2][hand]
+    return left[0][1]
+
+
 def _state_text(hand, state):
     left, phase, mark = state
     words = [str(hand), phase]

@@ -1,4 +1,4 @@
-"""Books and programs to go through, told without the package and without a random source."""
+"""Books, programs and standings to go through, told without the package and without a random source."""
 
 import itertools
 
@@ -45,3 +45,32 @@ def small_programs():
     """All programs of one and of two hands with at most one deed each."""
     each = ((),) + tuple((deed,) for deed in DEEDS)
     return [programs for many in (1, 2) for programs in itertools.product(each, repeat=many)]
+
+
+def books_with(words):
+    """The books that have these words, told as "entry word" or "entry word|word", with ", " between two."""
+    wanted = dict(part.split(" ") for part in words.split(", ")) if words else {}
+    kept = [wanted[name].split("|") if name in wanted else own for name, own in zip(BOOK_NAMES, BOOK_WORDS)]
+    return list(itertools.product(*kept))
+
+
+def read_deeds(text):
+    """The deeds that are told as "take 1, put 2"."""
+    return tuple((part.split(" ")[0], int(part.split(" ")[1])) for part in text.split(", ")) if text else ()
+
+
+def read_standing(text):
+    """The standing whose text this is."""
+    tokens, row, *hands = text.split("; ")
+    states = []
+    for part in hands:
+        words, left = part.split(":")
+        _, phase, mark = (words.split(" ") + ["no"])[:3]
+        states.append((read_deeds(left.strip()), phase, mark))
+    return int(tokens.split(" ")[0]), tuple(int(hand) for hand in row.split(" ")[1:]), tuple(states)
+
+
+def read_move(text):
+    """The move that is told as "1 call 0 2"."""
+    hand, word, *called = text.split(" ")
+    return (int(hand), word) + tuple(int(other) for other in called)

@@ -42,7 +42,8 @@ class ExamplesTest(unittest.TestCase):
 
     def test_there_are_some_for_each_promise_that_has_them(self):
         self.assertEqual(sorted({point for point, _, _ in examples()}),
-                         ["[A10]", "[A5]", "[A6]", "[A7]", "[A8]", "[A9]", "[B2]"])
+                         ["[A10]", "[A5]", "[A6]", "[A7]", "[A8]", "[A9]", "[B2]", "[B5]", "[C2]", "[C3]",
+                          "[C4]", "[C5]", "[D2]", "[D3]"])
 
 
 if __name__ == "__main__":

@@ -26,6 +26,27 @@ FUNCTIONS = {
     },
     "programtexts": {"programs_text": ("programs",), "read_programs": ("value",)},
     "standings": {"start": ("programs",), "standing_text": ("standing",)},
+    "moving": {
+        "moves": ("book", "standing"),
+        "move_error": ("book", "standing", "value"),
+        "moved": ("book", "standing", "value"),
+    },
+    "runs": {
+        "run_error": ("book", "programs", "value"),
+        "led": ("book", "programs", "run"),
+        "rests": ("standing",),
+        "sleepers": ("standing",),
+        "harm": ("standing",),
+        "whole_run": ("book", "programs"),
+    },
+    "runtexts": {"run_text": ("run",), "read_run": ("value",)},
+    "good": {
+        "lacks": ("book", "sort"),
+        "is_good": ("book", "sort"),
+        "many_good": ("sort",),
+        "idle": ("book", "sort"),
+        "mended": ("book", "sort"),
+    },
 }
 CLASSES = {
     "errors": ("SleepError", "Unfit", "BadBook", "BadPrograms", "BadMove", "BadRun", "BadText", "BadLog", "Refused",

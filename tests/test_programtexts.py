@@ -22,7 +22,8 @@ class ProgramsTextTest(unittest.TestCase):
                          "put 1, take 2, wish 3\nput 4")
 
     def test_hands_without_deeds(self):
-        self.assertEqual([programs_text(((),) * many) for many in range(1, 6)], ["", "\n", "\n\n", "\n\n\n", "\n\n\n\n"])
+        for many in range(1, 6):
+            self.assertEqual(programs_text(((),) * many), "\n" * (many - 1))
         self.assertEqual(programs_text(((), (("put", 1),))), "\nput 1")
         self.assertEqual(programs_text(((("put", 1),), ())), "put 1\n")
 
@@ -81,10 +82,11 @@ class ReadProgramsTest(unittest.TestCase):
 
     def test_lines_that_are_no_deeds(self):
         wrong = ("take 0", "take 5", "take 10", "take 01", "take 001", "take -1", "take +1", "take 1.", "take 1.0",
-                 "take", "take ", "take  1", " take 1", "take 1 ", "take1", "1 take", "1", "Take 1", "TAKE 1", "takes 1",
-                 "give 1", "take one", "take True", "take 1,", "take 1, ", ", take 1", "take 1,, take 1", "take 1,take 1",
-                 "take 1 , take 1", "take 1,  take 1", "take 1, , take 1", "take 1 take 1", "take 1;take 1", " ", ",", ", ",
-                 "('take', 1)", "take 1 1", "take\t1", "take 1_", "take 1" * 2, "take 12", "a" * 5000, "take " + "1" * 5000)
+                 "take", "take ", "take  1", " take 1", "take 1 ", "take1", "1 take", "1", "Take 1", "TAKE 1",
+                 "takes 1", "give 1", "take one", "take True", "take 1,", "take 1, ", ", take 1", "take 1,, take 1",
+                 "take 1,take 1", "take 1 , take 1", "take 1,  take 1", "take 1, , take 1", "take 1 take 1",
+                 "take 1;take 1", " ", ",", ", ", "('take', 1)", "take 1 1", "take\t1", "take 1_", "take 1" * 2,
+                 "take 12", "a" * 5000, "take " + "1" * 5000)
         for line in wrong:
             self.assert_bad_text(line, 0)
             for place in range(5):
@@ -109,8 +111,8 @@ class ReadProgramsTest(unittest.TestCase):
             self.assert_bad_text("put 1" + end + "put 1", 0)
 
     def test_what_is_no_string(self):
-        for value in odd_values() + [PAIR, list(PAIR), ["put 1"], ("put 1",), {"put 1": 1}, b"put 1", nested(20, "put 1"),
-                                     nested(30, PAIR)]:
+        for value in odd_values() + [PAIR, list(PAIR), ["put 1"], ("put 1",), {"put 1": 1}, b"put 1",
+                                     nested(20, "put 1"), nested(30, PAIR)]:
             if value == "":
                 continue
             before = copy.deepcopy(value)

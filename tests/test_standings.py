@@ -59,7 +59,8 @@ class StandingTextTest(unittest.TestCase):
             self.assertEqual(standing_text((0, (), ((left, "free", "no"),))), "0 tokens; row; 0 free:" + told)
 
     def test_hands_behind_one_another(self):
-        standing = (3, (2,), (((), "free", "no"), ((("wish", 1),), "woken", "called"), ((("take", 4),), "asleep", "no")))
+        states = (((), "free", "no"), ((("wish", 1),), "woken", "called"), ((("take", 4),), "asleep", "no"))
+        standing = (3, (2,), states)
         self.assertEqual(standing_text(standing=standing),
                          "3 tokens; row 2; 0 free:; 1 woken called: wish 1; 2 asleep: take 4")
 
