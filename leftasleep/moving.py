@@ -224,6 +224,21 @@ def moves(book, standing):
     return tuple(sorted([move for hand in hands for move in _moves_of(book, standing, hand)]))
 
 
+def first_of(book, standing, hand):
+    """The first of the hand's moves that is no "away", None if there is none."""
+    found = [move for move in _moves_of(book, standing, hand) if move[1] != "away"]
+    return min(found, default=None)
+
+
+def first_move(book, standing):
+    """The first of all moves that is no "away", None if there is none."""
+    for hand in range(len(standing[2])):
+        move = first_of(book, standing, hand)
+        if move is not None:
+            return move
+    return None
+
+
 def is_formed(value, many):
     """Whether value, whatever it is, is built as a move among so many hands."""
     if not isinstance(value, tuple) or len(value) < 2 or value[1] not in MOVE_WORDS:
@@ -243,16 +258,21 @@ def move_error(book, standing, value):
     return None if value in _moves_of(book, standing, value[0]) else "closed"
 
 
-def moved(book, standing, value):
-    """The standing behind the move value; BadMove if it cannot be made."""
-    error = move_error(book, standing, value)
-    if error is not None:
-        raise BadMove(error)
-    hand, word = value[:2]
+def made(book, standing, move):
+    """The standing behind a move that is known to be one that can be made."""
+    hand, word = move[:2]
     if word == "call":
-        return _call(book, standing, hand, value[2:])
+        return _call(book, standing, hand, move[2:])
     if word == "away":
         return _away(book, standing, hand)
     _, phase, _ = standing[2][hand]
     action = ON[phase]
     return action(book, standing, hand)
+
+
+def moved(book, standing, value):
+    """The standing behind the move value; BadMove if it cannot be made."""
+    error = move_error(book, standing, value)
+    if error is not None:
+        raise BadMove(error)
+    return made(book, standing, value)

@@ -2,21 +2,26 @@
 
 from leftasleep.bounds import MAX_MOVES
 from leftasleep.errors import BadMove, BadRun
-from leftasleep.moving import moved, moves
+from leftasleep.moving import first_move, made, moved
 from leftasleep.standings import start, wanted
+
+
+def standings_along(book, programs, run):
+    """The standings ahead of, between and behind the moves of run; BadRun if it is no run of programs by book."""
+    if not isinstance(run, tuple) or len(run) > MAX_MOVES:
+        raise BadRun("form")
+    along = [start(programs)]
+    for spot, move in enumerate(run):
+        try:
+            along.append(moved(book, along[-1], move))
+        except BadMove as wrong:
+            raise BadRun((spot, wrong.error)) from None
+    return along
 
 
 def led(book, programs, run):
     """The standing behind run; BadRun if it is no run of programs by book."""
-    if not isinstance(run, tuple) or len(run) > MAX_MOVES:
-        raise BadRun("form")
-    standing = start(programs)
-    for spot, move in enumerate(run):
-        try:
-            standing = moved(book, standing, move)
-        except BadMove as wrong:
-            raise BadRun((spot, wrong.error)) from None
-    return standing
+    return standings_along(book, programs, run)[-1]
 
 
 def run_error(book, programs, value):
@@ -54,12 +59,17 @@ def harm(standing):
     return ("asleep", left_asleep) if left_asleep else None
 
 
-def whole_run(book, programs):
-    """The run in which the least hand goes first, as far as it can, and nobody goes away."""
-    standing = start(programs)
+def rest_of(book, standing):
+    """The moves of the least hand first, till standing rests or there are MAX_MOVES, and the standing behind them."""
     run = []
     while len(run) < MAX_MOVES and not rests(standing):
-        move = [one for one in moves(book, standing) if one[1] != "away"][0]
-        standing = moved(book, standing, move)
+        move = first_move(book, standing)
+        standing = made(book, standing, move)
         run.append(move)
-    return tuple(run)
+    return tuple(run), standing
+
+
+def whole_run(book, programs):
+    """The run in which the least hand goes first, as far as it can, and nobody goes away."""
+    run, _ = rest_of(book, start(programs))
+    return run

@@ -8,6 +8,7 @@ from leftasleep.runs import harm, led, rests, run_error, sleepers
 from leftasleep.runtexts import read_run, run_text
 from leftasleep.standings import start
 from samples import BOOKS, Row, books_with, mixed_programs
+from weavings import does_harm, has_round, walked, woven
 
 SORTS = LIKE, LIKE_LEAVING, ANY, ANY_LEAVING = (
     ("like", "staying"), ("like", "leaving"), ("any", "staying"), ("any", "leaving"))
@@ -33,50 +34,6 @@ SMALL = (
     ((WISH,), (WISH,), (PUT_TWO,)), ((WISH, TAKE), (PUT,), (PUT,)), ((TAKE_TWO,), (TAKE,), (PUT, PUT)),
     ((TAKE_TWO,), (TAKE_TWO,), (PUT,)), ((WISH_TWO,), (TAKE,), (PUT_TWO,)), ((WISH_TWO,), (TAKE_TWO,), (PUT_TWO, PUT)),
 )
-
-
-def woven(book, programs):
-    """All standings that come, each with those that are one move behind it."""
-    begun = start(programs)
-    behind, left = {}, [begun]
-    while left:
-        standing = left.pop()
-        if standing not in behind:
-            behind[standing] = [moved(book, standing, move) for move in moves(book, standing)]
-            left.extend(behind[standing])
-    return behind
-
-
-def has_round(behind):
-    """Whether moves lead from some standing back to it: whether some are left when those that come first are taken."""
-    ahead = dict.fromkeys(behind, 0)
-    for standing in behind:
-        for other in behind[standing]:
-            ahead[other] += 1
-    free, many = [standing for standing in behind if ahead[standing] == 0], 0
-    while free:
-        many += 1
-        for other in behind[free.pop()]:
-            ahead[other] -= 1
-            if ahead[other] == 0:
-                free.append(other)
-    return many < len(behind)
-
-
-def does_harm(book, programs):
-    behind = woven(book, programs)
-    return any(harm(standing) is not None for standing in behind) or has_round(behind)
-
-
-def walked(book, programs, numbers, most):
-    """The moves of a run, chosen by a fixed row of numbers, each with the standings ahead of it and behind it."""
-    standing, steps = start(programs), []
-    while len(steps) < most and moves(book, standing):
-        move = numbers.one_of(moves(book, standing))
-        behind = moved(book, standing, move)
-        steps.append((standing, move, behind))
-        standing = behind
-    return steps
 
 
 def stored(book, ahead, move):

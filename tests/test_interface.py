@@ -47,6 +47,22 @@ FUNCTIONS = {
         "idle": ("book", "sort"),
         "mended": ("book", "sort"),
     },
+    "losing": {"losing": ("book", "sort")},
+    "losejudge": {"losing_error": ("book", "sort", "value")},
+    "weaving": {
+        "many_come": ("book", "programs"),
+        "harms": ("book", "programs"),
+        "ends": ("book", "programs"),
+        "shortest_loss": ("book", "programs"),
+        "some_round": ("book", "programs"),
+    },
+    "ways": {
+        "uncalled": ("standing",),
+        "fed": ("standing",),
+        "on_way": ("standing",),
+        "owed": ("standing",),
+        "least_want": ("standing",),
+    },
 }
 CLASSES = {
     "errors": ("SleepError", "Unfit", "BadBook", "BadPrograms", "BadMove", "BadRun", "BadText", "BadLog", "Refused",

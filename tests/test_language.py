@@ -1,8 +1,17 @@
 import ast
+import builtins
 import pathlib
 import unittest
 
 PACKAGE = pathlib.Path(__file__).resolve().parent.parent / "leftasleep"
+
+# The builtins that the language has and this package uses, or might.
+BUILTINS = {
+    "len", "range", "enumerate", "zip", "min", "max", "sum", "abs", "sorted", "reversed", "int", "str", "bool", "list",
+    "tuple", "dict", "set", "isinstance", "ord", "repr", "any", "all", "divmod", "ValueError", "KeyError",
+}
+METHODS = {"append", "extend", "get", "index", "isdigit", "items", "join", "pop", "split", "startswith", "values"}
+BARRED = {"mro", "elements", "open", "input", "law", "type", "typing", "enum", "dir", "vars", "id", "help", "exit", "os"}
 
 
 def files():
@@ -51,6 +60,40 @@ class LanguageTest(unittest.TestCase):
                         defined.update(target.id for target in node.targets)
                 for alias in made.names:
                     self.assertIn(alias.name, defined, path)
+
+    def test_names_are_bound_once_and_mean_one_thing(self):
+        for path in files():
+            tree = ast.parse(path.read_text())
+            imported = [alias.name for node in tree.body if isinstance(node, ast.ImportFrom) for alias in node.names]
+            made = [node.name for node in tree.body if isinstance(node, (ast.FunctionDef, ast.ClassDef))]
+            given = [target.id for node in tree.body if isinstance(node, ast.Assign) for target in node.targets]
+            bound = imported + made + given
+            self.assertEqual(len(set(bound)), len(bound), path)
+            inner = {node.id for node in ast.walk(tree) if isinstance(node, ast.Name) and isinstance(node.ctx, ast.Store)}
+            inner |= {node.arg for node in ast.walk(tree) if isinstance(node, ast.arg)}
+            classes = {node.name for node in tree.body if isinstance(node, ast.ClassDef)}
+            self.assertEqual((inner - set(given)) & (set(imported) | classes), set(), path)
+            self.assertEqual((inner | set(bound)) & (set(dir(builtins)) | BARRED), set(), path)
+
+    def test_only_plain_builtins_and_methods_are_used(self):
+        own = {node.name for path in files() for node in nodes(path, ast.FunctionDef)}
+        for path in files():
+            named = {node.id for node in nodes(path, ast.Name) if isinstance(node.ctx, ast.Load)}
+            self.assertLessEqual(named & set(dir(builtins)), BUILTINS, path)
+            called = {node.func.attr for node in nodes(path, ast.Call) if isinstance(node.func, ast.Attribute)}
+            self.assertLessEqual(called - own, METHODS, path)
+
+    def test_any_and_all_take_lists(self):
+        for path in files():
+            self.assertEqual(nodes(path, (ast.GeneratorExp, ast.Yield, ast.YieldFrom)), [], path)
+
+    def test_no_two_files_import_from_each_other(self):
+        names = {path.stem: {made.module.split(".")[1] for made in nodes(path, ast.ImportFrom)} for path in files()}
+        while names:
+            ended = [name for name, others in names.items() if not others & set(names)]
+            self.assertNotEqual(ended, [], names)
+            for name in ended:
+                del names[name]
 
     def test_no_floats_no_divisions_no_asynchronous_code(self):
         for path in files():
