@@ -15,7 +15,8 @@ def programs_text(programs):
     return "\n".join([deeds_text(program) for program in programs])
 
 
-def _deeds_by_text():
+def deeds_by_text():
+    """All deeds by their texts."""
     deeds = [(word, number) for word in DEED_WORDS for number in range(1, MAX_WANT + 1)]
     return {deeds_text((deed,)): deed for deed in deeds}
 
@@ -33,7 +34,7 @@ def read_programs(value):
     """The programs whose text value is; BadText or BadPrograms if it is the text of none."""
     if not isinstance(value, str):
         raise BadText(0)
-    deeds = _deeds_by_text()
+    deeds = deeds_by_text()
     programs = tuple([_read_line(line, deeds) for line in value.split("\n")])
     if None in programs:
         raise BadText(programs.index(None))

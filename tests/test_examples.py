@@ -43,7 +43,8 @@ class ExamplesTest(unittest.TestCase):
     def test_there_are_some_for_each_promise_that_has_them(self):
         self.assertEqual(sorted({point for point, _, _ in examples()}),
                          ["[A10]", "[A5]", "[A6]", "[A7]", "[A8]", "[A9]", "[B2]", "[B5]", "[C2]", "[C3]",
-                          "[C4]", "[C5]", "[D2]", "[D3]", "[E2]", "[E3]", "[F2]", "[F3]", "[G2]", "[G3]"])
+                          "[C4]", "[C5]", "[D2]", "[D3]", "[E2]", "[E3]", "[F2]", "[F3]", "[G2]", "[G3]",
+                          "[H2]", "[H3]", "[I2]", "[I3]", "[J1]"])
 
 
 if __name__ == "__main__":

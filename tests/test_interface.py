@@ -63,10 +63,40 @@ FUNCTIONS = {
         "owed": ("standing",),
         "least_want": ("standing",),
     },
+    "counting": {
+        "tally": ("book", "programs", "run"),
+        "served": ("book", "programs", "run"),
+        "can_fail": ("book",),
+        "can_pass_over": ("book",),
+    },
+    "halllogs": {"log_text": ("log",), "read_log": ("value",), "hall_behind": ("book", "value")},
 }
 CLASSES = {
     "errors": ("SleepError", "Unfit", "BadBook", "BadPrograms", "BadMove", "BadRun", "BadText", "BadLog", "Refused",
                "TooMany", "TooManyEdits", "NothingToUndo"),
+    "halls": ("Hall",),
+    "shells": ("Shell",),
+}
+# The methods that it lists for classes, each to be defined in the class itself, with the names of their arguments.
+METHODS = {
+    ("halls", "Hall"): {
+        "__init__": ("book",),
+        "book": (),
+        "standing": (),
+        "log": (),
+        "names": (),
+        "can": (),
+        "trouble": (),
+        "come": ("name",),
+        "ask": ("name", "deed"),
+        "go": ("move",),
+        "rest": (),
+        "turn": ("entry", "word"),
+        "undo": (),
+        "twin": (),
+        "__eq__": ("other",),
+    },
+    ("shells", "Shell"): {"say": ("line",)},
 }
 
 
@@ -87,15 +117,28 @@ class InterfaceTest(unittest.TestCase):
         for module, listed in CLASSES.items():
             self.assertLessEqual(set(listed), defined(module, ast.ClassDef), module)
 
+    def assert_arguments(self, made, arguments):
+        parameters = inspect.signature(made).parameters
+        self.assertEqual(tuple(parameters), arguments)
+        for parameter in parameters.values():
+            self.assertIs(parameter.kind, inspect.Parameter.POSITIONAL_OR_KEYWORD)
+            self.assertIs(parameter.default, inspect.Parameter.empty)
+
     def test_arguments_have_the_names_that_are_told(self):
         for module, listed in FUNCTIONS.items():
             for name, arguments in listed.items():
-                made = getattr(importlib.import_module("leftasleep." + module), name)
-                parameters = inspect.signature(made).parameters
-                self.assertEqual(tuple(parameters), arguments)
-                for parameter in parameters.values():
-                    self.assertIs(parameter.kind, inspect.Parameter.POSITIONAL_OR_KEYWORD)
-                    self.assertIs(parameter.default, inspect.Parameter.empty)
+                self.assert_arguments(getattr(importlib.import_module("leftasleep." + module), name), arguments)
+
+    def test_methods_stand_in_their_classes(self):
+        for (module, name), listed in METHODS.items():
+            made = getattr(importlib.import_module("leftasleep." + module), name)
+            self.assertLessEqual(set(listed), set(vars(made)))
+            for method, arguments in listed.items():
+                self.assert_arguments(vars(made)[method], ("self",) + arguments)
+
+    def test_there_are_no_other_modules_than_those_and_a_few_for_them(self):
+        found = {path.stem for path in PACKAGE.glob("*.py")}
+        self.assertEqual(found - set(FUNCTIONS) - set(CLASSES), {"__init__", "bounds", "integers", "names"})
 
 
 if __name__ == "__main__":

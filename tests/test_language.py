@@ -10,7 +10,7 @@ BUILTINS = {
     "len", "range", "enumerate", "zip", "min", "max", "sum", "abs", "sorted", "reversed", "int", "str", "bool", "list",
     "tuple", "dict", "set", "isinstance", "ord", "repr", "any", "all", "divmod", "ValueError", "KeyError",
 }
-METHODS = {"append", "extend", "get", "index", "isdigit", "items", "join", "pop", "split", "startswith", "values"}
+METHODS = {"append", "count", "extend", "get", "index", "isdigit", "items", "join", "pop", "split", "startswith", "values"}
 BARRED = {"mro", "elements", "open", "input", "law", "type", "typing", "enum", "dir", "vars", "id", "help", "exit", "os"}
 
 
